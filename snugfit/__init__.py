@@ -1,0 +1,1 @@
+"""Snugfit: convex shapes laid into one another, reckoned with whole numbers and fractions."""
