@@ -49,6 +49,11 @@ def side_between(start, end):
     return lowest_whole((a, b, c))
 
 
+# Above 0 where the second of two sides runs to the left of the first, below 0 to the right, 0 along it or back.
+def cross(side, other):
+    return side[0] * other[1] - side[1] * other[0]
+
+
 # The least whole numbers that stand to one another as the fractions do, with the same signs.
 def lowest_whole(parts):
     common = 1

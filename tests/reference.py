@@ -1,6 +1,7 @@
-"""What the tests share: checks of form, and shapes to ask about, made without the program."""
+"""What the tests share: checks of form, slow answers, and shapes to ask about, made without the program."""
 
 from fractions import Fraction
+from itertools import combinations
 from math import gcd
 
 MANY = 10 ** 80 + 129
@@ -72,6 +73,82 @@ def moved(value, factor, right, up):
     return [spot(number(x) * factor + right, number(y) * factor + up) for x, y in value]
 
 
+def hull(places):
+    """The corners of the least convex part that has all places, in a shape's order; fewer than three where it is flat.
+    """
+    ordered = sorted(set(places))
+    corners = []
+    for way in (ordered, ordered[::-1]):
+        bent = []
+        for end in way:
+            while len(bent) > 1 and left_of(bent[-2], bent[-1], end) <= 0:
+                bent.pop()
+            bent.append(end)
+        corners += bent[:-1]
+    return [spot(*corner) for corner in corners or ordered]
+
+
+def edges(value):
+    """Each side as (a, b, c), not in lowest terms."""
+    places = [place(corner) for corner in value]
+    found = []
+    for start, end in zip(places, places[1:] + places[:1]):
+        a, b = start[1] - end[1], end[0] - start[0]
+        found.append((a, b, a * start[0] + b * start[1]))
+    return found
+
+
+def least_of(value, a, b):
+    return min(a * number(x) + b * number(y) for x, y in value)
+
+
+def holds(one, other):
+    """Whether the other lies within the one."""
+    return all(where(one, corner) >= 0 for corner in other)
+
+
+def slow_pushes(one, other):
+    """Of all spots where two of the bounds meet, those that keep to all bounds span the region."""
+    bounds = [(a, b, c - least_of(other, a, b)) for a, b, c in edges(one)]
+    kept = set()
+    for (a, b, c), (d, e, f) in combinations(bounds, 2):
+        cross = a * e - b * d
+        if cross != 0:
+            x, y = (c * e - f * b) / cross, (a * f - d * c) / cross
+            if all(g * x + h * y >= k for g, h, k in bounds):
+                kept.add((x, y))
+    return hull(kept)
+
+
+def slow_sum(one, other):
+    return hull([(number(x) + number(u), number(y) + number(v)) for x, y in one for u, v in other])
+
+
+def half_turn(value):
+    return hull([(-number(x), -number(y)) for x, y in value])
+
+
+def strewn(seed, count, wide, bottom=1):
+    """A shape out of points that have no plain order."""
+    points = []
+    for k in range(count):
+        seed = (seed * 48271 + 11) % 2147483647
+        x = seed // 7 % wide
+        seed = (seed * 48271 + 11) % 2147483647
+        y = seed // 7 % wide
+        points.append((Fraction(x, bottom), Fraction(y, bottom + k % bottom)))
+    return hull(points)
+
+
+def thirty(seed, far=0, bottom=1):
+    """Thirty corners on a circle about (far, far), the one side of it fuller than the other."""
+    places = []
+    for k in range(30):
+        t = Fraction(k - 14, 5) + Fraction(seed, 40 + k)
+        places.append((far + (1 - t * t) / (1 + t * t) * seed / bottom, far + 2 * t / (1 + t * t) * seed / bottom))
+    return hull(places)
+
+
 TRIANGLE = shape((0, 0), (4, 0), (0, 3))
 SQUARE = shape((0, 0), (2, 0), (2, 2), (0, 2))
 DIAMOND = shape((-3, 0), (0, -2), (3, 0), (0, 2))
@@ -81,6 +158,19 @@ BROKEN = shape((0, 0), (Fraction(1, 2), 0), (0, Fraction(1, 3)))
 UNEVEN = shape((Fraction(-5, 6), Fraction(1, 10)), (Fraction(3, 4), Fraction(-7, 15)),
                (Fraction(8, 9), Fraction(5, 14)), (Fraction(-1, 21), Fraction(22, 25)))
 PARABOLA = shape(*[(k, k * k) for k in range(-15, 15)])
+BOX = shape((1, 1), (6, 1), (6, 3), (1, 3))
+HEXAGON = shape((-2, 0), (-1, -2), (1, -2), (2, 0), (1, 2), (-1, 2))
+FLAT = shape((-9, 0), (0, -1), (9, 0), (0, 1))
+STEEP = shape((0, 0), (1, -40), (Fraction(3, 2), 0), (1, 40))
+ROUND = thirty(5)
+BOWED = half_turn(PARABOLA)
+
+
+def mixed_shapes():
+    """Fewer than all, to be asked about in twos and threes."""
+    plain = [TRIANGLE, SQUARE, DIAMOND, SLIVER, SEVEN, UNEVEN, BOX, HEXAGON, FLAT, STEEP]
+    return plain + [moved(SEVEN, Fraction(2, 3), MANY, Fraction(1, MANY)), moved(TRIANGLE, Fraction(7, 5), -MANY, 0),
+                    half_turn(UNEVEN), half_turn(SLIVER), strewn(1, 9, 40), strewn(2, 12, 30, 7)]
 
 
 def every_shape():

@@ -47,6 +47,11 @@ def bound_names(tree):
     return bound
 
 
+def own_values(tree):
+    """The values that the objects have."""
+    return [node.attr for node in ast.walk(tree) if isinstance(node, ast.Attribute) and isinstance(node.ctx, ast.Store)]
+
+
 def imported_names(tree):
     return [alias.name for node in tree.body if isinstance(node, ast.ImportFrom) for alias in node.names]
 
@@ -115,11 +120,46 @@ class Language(unittest.TestCase):
                 self.assertIsNone(alias.asname, name)
                 self.assertIn(alias.name, defined, name)
 
+    def test_no_import_is_idle_or_leads_back(self):
+        drawn = {}
+        for name, tree in trees():
+            used = [node.id for node in ast.walk(tree) if isinstance(node, ast.Name)]
+            used += [base.id for node in ast.walk(tree) if isinstance(node, ast.ClassDef) for base in node.bases]
+            for word in imported_names(tree):
+                self.assertIn(word, used, name)
+            drawn[name[:-3]] = {node.module.split(".")[1] for node in tree.body if isinstance(node, ast.ImportFrom)}
+        while drawn:
+            leaves = [name for name in drawn if not drawn[name] & set(drawn)]
+            self.assertTrue(leaves, drawn)
+            drawn = {name: drawn[name] for name in drawn if name not in leaves}
+
+    def test_the_values_of_objects(self):
+        taken = set(dir(str) + dir(int) + dir(list) + dir(dict) + dir(set) + dir(bytes) + ["args"])
+        parts = [part for _, node in nodes(ast.ClassDef) for part in node.body]
+        methods = {part.name for part in parts if isinstance(part, ast.FunctionDef)}
+        for name, tree in trees():
+            for word in own_values(tree):
+                self.assertRegex(word, PLAIN, name)
+                self.assertNotIn(word, taken | methods, name)
+        for name, node in nodes((ast.Assign, ast.AugAssign)):
+            for target in node.targets if isinstance(node, ast.Assign) else [node.target]:
+                if isinstance(target, ast.Attribute):
+                    self.assertIsInstance(target.value, ast.Name, (name, node.lineno))
+
+    def test_each_name_once_at_the_top(self):
+        for name, tree in trees():
+            top = [node.name for node in tree.body if isinstance(node, (ast.FunctionDef, ast.ClassDef))]
+            top += imported_names(tree)
+            self.assertEqual(len(top), len(set(top)), name)
+
     def test_names(self):
+        valued = [word for _, tree in trees() for word in own_values(tree)]
         for name, tree in trees():
             bound = bound_names(tree)
             for word in bound:
-                self.assertIsNotNone(PLAIN.fullmatch(word) or re.fullmatch("__(init|eq|repr|str|len)__", word), word)
+                if re.fullmatch("__(init|eq|repr|str|len)__", word):
+                    continue
+                self.assertIsNotNone(PLAIN.fullmatch(word), word)
                 self.assertFalse(hasattr(builtins, word), (name, word))
                 self.assertNotIn(word, imported_names(tree), name)
             known = BUILT_IN | set(bound) | set(imported_names(tree))
@@ -127,4 +167,4 @@ class Language(unittest.TestCase):
                 if isinstance(node, ast.Name):
                     self.assertIn(node.id, known, (name, node.lineno))
                 if isinstance(node, ast.Attribute):
-                    self.assertIn(node.attr, METHODS | set(bound), (name, node.lineno))
+                    self.assertIn(node.attr, METHODS | set(bound + valued), (name, node.lineno))
